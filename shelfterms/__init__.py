@@ -1,0 +1,1 @@
+"""Shelfterms: the unknown rule by which shelves are sorted."""
