@@ -1,5 +1,7 @@
 """Tests of values of any kind."""
 
+from shelfterms.errors import InvalidMark, InvalidTerm
+
 LETTERS = "abcdefghijklmnopqrstuvwxyz"
 LONGEST_NAME = 12
 
@@ -17,3 +19,28 @@ def is_integer(value, least, most):
     """Return True if the value is an integer within the bounds."""
     # Python counts True and False among the integers, the document does not.
     return isinstance(value, int) and not isinstance(value, bool) and least <= value <= most
+
+
+def is_term(value, count):
+    """Return True if the value is a term of one of the first `count` marks."""
+    return (
+        isinstance(value, tuple)
+        and len(value) == 2
+        and is_integer(value[0], 0, count - 1)
+        and is_integer(value[1], -1, 1)
+        and value[1] != 0
+    )
+
+
+def check_marks(marks, count):
+    """Raise InvalidMark for the first one that is no mark or that occurs earlier."""
+    for at, mark in enumerate(marks):
+        if not is_integer(mark, 0, count - 1) or mark in marks[:at]:
+            raise InvalidMark(mark)
+
+
+def check_terms(terms, count):
+    """Raise InvalidTerm for the first one that is no term or that occurs earlier."""
+    for at, term in enumerate(terms):
+        if not is_term(term, count) or term in terms[:at]:
+            raise InvalidTerm(term)

@@ -33,6 +33,13 @@ def term_rank(term):
     return 2 * mark if direction == 1 else 2 * mark + 1
 
 
+def written_term(catalog, term):
+    """Return the term as text: the name of its mark, and `asc` or `desc`."""
+    mark, direction = term
+    word = "asc" if direction == 1 else "desc"
+    return f"{catalog.names[mark]} {word}"
+
+
 def verdict(terms, step):
     """Return 1 or -1 as the first term that decides is good or bad, else 0."""
     for mark, direction in terms:

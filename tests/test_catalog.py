@@ -114,13 +114,7 @@ class CatalogNames(Asserts, unittest.TestCase):
         self.assertEqual(catalog.names, ("height", "year"))
 
 
-class CatalogEquality(unittest.TestCase):
-
-    def assert_equal_both_ways(self, first, second, expected):
-        self.assertIs(first == second, expected)
-        self.assertIs(second == first, expected)
-        self.assertIs(first != second, not expected)
-        self.assertIs(second != first, not expected)
+class CatalogEquality(Asserts, unittest.TestCase):
 
     def test_same_names_in_the_same_order(self):
         for names in GOOD:

@@ -6,10 +6,11 @@ import unittest
 
 FOLDER = pathlib.Path(__file__).resolve().parent.parent / "shelfterms"
 
-# For each module that is written: its functions, and its classes with their methods.
+# For each module that is written: its functions, and its classes with their methods,
+# each with its parameters.
 INTERFACE = {
-    "errors": ((), {
-        word: () for word in (
+    "errors": ({}, {
+        word: {} for word in (
             "ShelfError", "InvalidCatalog", "UnknownMark", "InvalidBook", "InvalidRule",
             "InvalidTerm", "InvalidMark", "InvalidText", "Unsorted", "InvalidName",
             "DuplicateShelf", "UnknownShelf", "UnlikeCatalogs", "InvalidSpot", "InvalidPlace",
@@ -17,12 +18,59 @@ INTERFACE = {
             "NothingToUndo", "NothingToRedo", "InvalidSetting",
         )
     }),
-    "catalog": ((), {
-        "Catalog": ("numbered", "index_of", "is_book", "make_book", "__len__", "__eq__"),
+    "catalog": ({}, {
+        "Catalog": {
+            "__init__": "self, *names", "numbered": "cls, count", "index_of": "self, name",
+            "is_book": "self, value", "make_book": "self, *values, **named",
+            "__len__": "self", "__contains__": "self, name", "__eq__": "self, other",
+        },
     }),
-    "steps": (
-        ("step_between", "good_terms", "bad_terms", "all_terms", "term_rank", "verdict"), {},
-    ),
+    "steps": ({
+        "step_between": "earlier, later", "good_terms": "step", "bad_terms": "step",
+        "all_terms": "count", "term_rank": "term", "verdict": "terms, step",
+    }, {}),
+    "rules": ({}, {
+        "Rule": {
+            "__init__": "self, *terms", "marks": "self", "ascending": "*marks",
+            "listed": "cls, terms", "read": "cls, catalog, text", "direction_of": "self, mark",
+            "compare": "self, first, second", "arranged": "self, books",
+            "merged": "self, *shelves", "written": "self, catalog", "__call__": "self, book",
+            "__len__": "self", "__contains__": "self, mark", "__eq__": "self, other",
+            "__neg__": "self", "__add__": "self, other",
+        },
+    }),
+    "evidence": ({}, {
+        "Evidence": {
+            "__init__": "self, catalog", "shelf_names": "self", "of": "cls, catalog, **shelves",
+            "with_shelf": "self, name, *books", "with_books": "self, name, books",
+            "without_shelf": "self, name", "with_question": "self, books", "all_spots": "self",
+            "places": "self, spots=()", "pair": "self, place", "step": "self, place",
+            "fits": "self, rule", "explains": "self, rule", "fault": "self, rule",
+            "__getitem__": "self, name", "__len__": "self", "__contains__": "self, name",
+            "__eq__": "self, other", "__add__": "self, other",
+        },
+    }),
+    "papers": ({}, {
+        "Paper": {"told": "self, catalog"},
+        "Barrier": {
+            "__init__": "self, inside, exits, blocks", "told": "self, catalog",
+            "__and__": "self, other",
+        },
+        "Gate": {
+            "__init__": "self, inside, exits, blocks, among, place", "told": "self, catalog",
+        },
+        "Refusal": {"__init__": "self, barrier, children", "told": "self, catalog"},
+        "Scarcity": {"__init__": "self, bound, gates", "told": "self, catalog"},
+    }),
+    "family": ({}, {
+        "Family": {
+            "__init__": "self, evidence, spots=()", "sound": "self",
+            "open_terms": "self, used=()", "is_beginning": "self, terms",
+            "is_feasible": "self, marks", "reach": "self, barred=()", "ahead_of": "self, mark",
+            "feasible_sets": "self", "least_sets": "self, mark", "complete": "self, terms=()",
+            "directions": "self, mark", "find_barrier": "self, exits=()",
+        },
+    }),
 }
 
 
@@ -36,11 +84,17 @@ def defined(body, kind):
 
 class Interface(unittest.TestCase):
 
+    def assert_defined(self, body, functions, where):
+        """Fail unless the functions are defined there, with these parameters."""
+        found = defined(body, ast.FunctionDef)
+        for name, parameters in functions.items():
+            self.assertIn(name, found, where)
+            self.assertEqual(ast.unparse(found[name].args), parameters, (where, name))
+
     def test_each_function_and_class_is_defined_in_its_file(self):
         for module, (functions, classes) in INTERFACE.items():
             body = parsed(FOLDER / f"{module}.py").body
-            for name in functions:
-                self.assertIn(name, defined(body, ast.FunctionDef), module)
+            self.assert_defined(body, functions, module)
             for name in classes:
                 self.assertIn(name, defined(body, ast.ClassDef), module)
 
@@ -48,8 +102,7 @@ class Interface(unittest.TestCase):
         for module, (_, classes) in INTERFACE.items():
             found = defined(parsed(FOLDER / f"{module}.py").body, ast.ClassDef)
             for name, methods in classes.items():
-                for method in methods:
-                    self.assertIn(method, defined(found[name].body, ast.FunctionDef), name)
+                self.assert_defined(found[name].body, methods, name)
 
 
 class Files(unittest.TestCase):

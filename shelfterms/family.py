@@ -1,0 +1,173 @@
+"""The family of the beginnings of all rules that fit an evidence."""
+
+from shelfterms.errors import InvalidBeginning, InvalidRule, NoRule
+from shelfterms.kinds import check_marks, check_terms
+from shelfterms.papers import Barrier
+from shelfterms.rules import Rule
+from shelfterms.steps import all_terms, bad_terms, term_rank
+
+
+class Family:
+    """What an evidence without some spots says about the rules that fit it.
+
+    Inside, a set of terms is an integer that has the bit `term_rank(term)` for each term.
+    """
+
+    def __init__(self, evidence, spots=()):
+        self._count = len(evidence.catalog)
+        # The bad terms of each step tell which marks it changes, and so all that
+        # matters about it. The first place with this step stands for the others.
+        self._firsts = {}
+        for place in evidence.places(spots):
+            bad = _bits(bad_terms(evidence.step(place)))
+            self._firsts.setdefault(bad, place)
+
+    @property
+    def sound(self):
+        """True if some rule fits."""
+        return len(self.reach()) == self._count
+
+    def open_terms(self, used=()):
+        """Return the list of the terms that are open behind the used marks, in order."""
+        check_marks(used, self._count)
+        behind = self._with_marks(used)
+        # The terms of the used marks are not open either.
+        closed = behind
+        for bad in self._firsts:
+            if bad & behind == 0:
+                closed = closed | bad
+        return [term for term in all_terms(self._count) if closed & _bits([term]) == 0]
+
+    def is_beginning(self, terms):
+        """Return True if the terms of the list are a beginning."""
+        rule = self._checked_rule(terms)
+        return self._first_closed(rule) is None
+
+    def reach(self, barred=()):
+        """Return the ascending tuple of the marks that can be used without the barred ones."""
+        check_marks(barred, self._count)
+        return self._reach_without([term for term in all_terms(self._count) if term[0] in barred])
+
+    def is_feasible(self, marks):
+        """Return True if some beginning has just these marks."""
+        check_marks(marks, self._count)
+        others = [mark for mark in range(self._count) if mark not in marks]
+        return len(self.reach(others)) == len(marks)
+
+    def feasible_sets(self):
+        """Yield all feasible sets as ascending tuples, smaller ones first."""
+        sets = [()]
+        while sets:
+            for marks in sets:
+                yield marks
+            sets = self._sets_with_one_more(sets)
+
+    def least_sets(self, mark):
+        """Return the list of the least feasible sets that have the mark."""
+        check_marks([mark], self._count)
+        found = []
+        for marks in self.feasible_sets():
+            # The smaller sets come first, so what is found so far has all that may be within.
+            if mark in marks and not any([_is_within(fewer, marks) for fewer in found]):
+                found.append(marks)
+        return found
+
+    def complete(self, terms=()):
+        """Return the rule that fits, begins with the terms and then takes the least ones."""
+        rule = self._checked_rule(terms)
+        self._check_sound()
+        at = self._first_closed(rule)
+        if at is not None:
+            raise InvalidBeginning(at)
+        taken = list(rule.terms)
+        while len(taken) < self._count:
+            taken.append(self.open_terms([mark for mark, _ in taken])[0])
+        return Rule.listed(taken)
+
+    def ahead_of(self, mark):
+        """Return the ascending tuple of the marks that stand ahead of the mark in every rule."""
+        check_marks([mark], self._count)
+        self._check_sound()
+        # A mark that is not needed to use this one may stand behind it.
+        others = [other for other in range(self._count) if other != mark]
+        return tuple([other for other in others if mark not in self.reach([other])])
+
+    def directions(self, mark):
+        """Return the tuple of the directions that the mark has in some rule."""
+        check_marks([mark], self._count)
+        self._check_sound()
+        # Behind more marks, more terms are open. So the mark is put behind all marks
+        # that can be used without it, where no other mark has an open term.
+        latest = self.open_terms(self.reach([mark]))
+        return tuple([direction for _, direction in latest])
+
+    def find_barrier(self, exits=()):
+        """Return the barrier behind what is used by terms other than the exits, or None."""
+        check_terms(exits, self._count)
+        inside = self._reach_without(exits)
+        if len(inside) == self._count:
+            return None
+        outside = [term for term in all_terms(self._count) if term[0] not in inside]
+        blocked = [term for term in outside if term not in exits]
+        return Barrier(
+            inside,
+            tuple([term for term in outside if term in exits]),
+            tuple([(term, self._first_block(term, inside)) for term in blocked]),
+        )
+
+    def _checked_rule(self, terms):
+        rule = Rule.listed(terms)
+        if any([mark >= self._count for mark in rule.marks]):
+            raise InvalidRule(rule.terms)
+        return rule
+
+    def _check_sound(self):
+        barrier = self.find_barrier()
+        if barrier is not None:
+            raise NoRule(barrier)
+
+    def _first_closed(self, rule):
+        """Return the index of the first term that is not open behind those before it, or None."""
+        for at, term in enumerate(rule.terms):
+            if term not in self.open_terms(rule.marks[:at]):
+                return at
+        return None
+
+    def _reach_without(self, barred):
+        """Return the ascending tuple of the marks that terms other than the barred ones can use."""
+        marks = []
+        terms = self._open_without(barred, marks)
+        while terms:
+            marks.append(terms[0][0])
+            terms = self._open_without(barred, marks)
+        return tuple(sorted(marks))
+
+    def _open_without(self, barred, marks):
+        return [term for term in self.open_terms(marks) if term not in barred]
+
+    def _sets_with_one_more(self, sets):
+        larger = [
+            tuple(sorted([*marks, mark])) for marks in sets for mark, _ in self.open_terms(marks)
+        ]
+        return sorted(set(larger))
+
+    def _first_block(self, term, inside):
+        """Return the first place that agrees on the marks inside and closes the term."""
+        agreed = self._with_marks(inside)
+        found = [
+            place for bad, place in self._firsts.items()
+            if bad & agreed == 0 and bad & _bits([term]) != 0
+        ]
+        return found[0]
+
+    def _with_marks(self, marks):
+        return _bits([term for term in all_terms(self._count) if term[0] in marks])
+
+
+def _bits(terms):
+    """Return the set of the terms as an integer."""
+    return sum([1 << term_rank(term) for term in terms])
+
+
+def _is_within(few, many):
+    return all([mark in many for mark in few])
