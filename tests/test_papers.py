@@ -7,6 +7,7 @@ import unittest
 from shelfterms.catalog import Catalog
 from shelfterms.family import Family
 from shelfterms.papers import Barrier, Gate, Paper, Refusal, Scarcity
+from shelfterms.steps import good_terms, step_between
 from support import CASES, Asserts, agree, evidence_of
 
 CATALOG = Catalog("height", "year", "a", "abcdefghijkl")
@@ -316,6 +317,25 @@ class Combining(Asserts, unittest.TestCase):
                     found.append(barrier)
             for first, second in itertools.product(found, repeat=2):
                 self.assert_is_barrier(first & second, count, shelves)
+
+    def test_a_row_of_books(self):
+        rows = 0
+        for count, shelves, absent in CASES[:120]:
+            family = Family(evidence_of(count, shelves), absent)
+            books = sorted({book for row in shelves.values() for book in row})[:9]
+            surely = {}
+            for first, second in itertools.permutations(books, 2):
+                barrier = family.find_barrier(good_terms(step_between(first, second)))
+                if barrier is not None and agree(first, second, barrier.inside):
+                    surely[first, second] = barrier
+            for (first, second), (third, last) in itertools.product(surely, repeat=2):
+                if second == third:
+                    row = surely[first, second] & surely[third, last]
+                    good = good_terms(step_between(first, last))
+                    self.assertTrue(agree(first, last, row.inside))
+                    self.assertTrue(all(term in good for term in row.exits))
+                    rows += 1
+        self.assertGreater(rows, 1000)
 
     def assert_is_barrier(self, barrier, count, shelves):
         """Fail unless the barrier is as point 34 says."""
