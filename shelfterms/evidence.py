@@ -1,10 +1,9 @@
 """Evidence: the shelves that were seen."""
 
 from shelfterms.errors import (
-    DuplicateShelf, InvalidBook, InvalidName, InvalidPlace, InvalidSpot, UnknownShelf,
-    UnlikeCatalogs,
+    DuplicateShelf, InvalidName, InvalidPlace, InvalidSpot, UnknownShelf, UnlikeCatalogs,
 )
-from shelfterms.kinds import is_integer, is_name
+from shelfterms.kinds import check_books, is_integer, is_name
 from shelfterms.steps import step_between
 
 
@@ -52,12 +51,14 @@ class Evidence:
             other: books for other, books in self._shelves.items() if other != name
         })
 
+    def with_shelf_changed(self, name, books):
+        """Return the evidence in which that shelf has the books of the list instead of its own."""
+        return self._with_shelves({**self._shelves, name: tuple(books)})
+
     def _with_more(self, name, books):
         if name in self:
             raise DuplicateShelf(name)
-        for book in books:
-            if not self.catalog.is_book(book):
-                raise InvalidBook(book)
+        check_books(books, self.catalog)
         return self._with_shelves({**self._shelves, name: tuple(books)})
 
     def _with_shelves(self, shelves):
@@ -73,9 +74,7 @@ class Evidence:
 
     def places(self, spots=()):
         """Yield the places of all neighbours that differ, where the spots are left out."""
-        for spot in spots:
-            if not self._is_spot(spot):
-                raise InvalidSpot(spot)
+        self.check_spots(spots)
         absent = set(spots)
         for name, books in self._shelves.items():
             there = [index for index in range(len(books)) if (name, index) not in absent]
@@ -83,9 +82,20 @@ class Evidence:
                 if books[i] != books[j]:
                     yield (name, i, j)
 
+    def spots_of(self, found):
+        """Return the list of the spots of these places, each once, in the order of all spots."""
+        ends = set([spot for name, i, j in found for spot in ((name, i), (name, j))])
+        return [spot for spot in self.all_spots() if spot in ends]
+
+    def check_spots(self, spots):
+        """Raise InvalidSpot for the first one that is no spot of this evidence."""
+        for spot in spots:
+            if not self._is_spot(spot):
+                raise InvalidSpot(spot)
+
     def pair(self, place):
         """Return the two books of the place."""
-        if not self._is_place(place):
+        if not self.has_place(place):
             raise InvalidPlace(place)
         name, i, j = place
         return (self[name][i], self[name][j])
@@ -120,7 +130,8 @@ class Evidence:
         name, index = value
         return self._has_shelf(name) and is_integer(index, 0, len(self[name]) - 1)
 
-    def _is_place(self, value):
+    def has_place(self, value):
+        """Return True if the value, which may be of any kind, is a place of this evidence."""
         if not isinstance(value, tuple) or len(value) != 3:
             return False
         name, i, j = value

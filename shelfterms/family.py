@@ -1,8 +1,9 @@
 """The family of the beginnings of all rules that fit an evidence."""
 
 from shelfterms.errors import InvalidBeginning, InvalidRule, NoRule
+from shelfterms.evidence import Evidence
 from shelfterms.kinds import check_marks, check_terms
-from shelfterms.papers import Barrier
+from shelfterms.papers import Barrier, Gate
 from shelfterms.rules import Rule
 from shelfterms.steps import all_terms, bad_terms, term_rank
 
@@ -14,18 +15,50 @@ class Family:
     """
 
     def __init__(self, evidence, spots=()):
+        self._evidence = evidence
+        self._spots = list(spots)
         self._count = len(evidence.catalog)
-        # The bad terms of each step tell which marks it changes, and so all that
-        # matters about it. The first place with this step stands for the others.
+        self._take({place: _bad_bits(evidence, place) for place in evidence.places(spots)})
+
+    def without_spot(self, spot):
+        """Return the family of the evidence in which this spot is left out, too."""
+        family = Family(Evidence(self._evidence.catalog))
+        family._evidence = self._evidence
+        family._spots = [*self._spots, spot]
+        # Most places are the same ones, so their steps need not be looked at again.
+        known = self._bads
+        family._take({
+            place: known[place] if place in known else _bad_bits(self._evidence, place)
+            for place in self._evidence.places(family._spots)
+        })
+        return family
+
+    def without_step(self, step):
+        """Return the family that the places with all other steps make."""
+        left_out = _bits(bad_terms(step))
+        family = Family(Evidence(self._evidence.catalog))
+        family._take({place: bad for place, bad in self._bads.items() if bad != left_out})
+        return family
+
+    def _take(self, bads):
+        """Keep the places, each with the bad terms of its step."""
+        self._bads = bads
+        # The bad terms of a step tell which marks it changes, and so all that matters
+        # about it. The first place with this step stands for the others.
         self._firsts = {}
-        for place in evidence.places(spots):
-            bad = _bits(bad_terms(evidence.step(place)))
+        for place, bad in bads.items():
             self._firsts.setdefault(bad, place)
 
     @property
     def sound(self):
         """True if some rule fits."""
         return len(self.reach()) == self._count
+
+    def check_sound(self):
+        """Raise NoRule if no rule fits."""
+        barrier = self.find_barrier()
+        if barrier is not None:
+            raise NoRule(barrier)
 
     def open_terms(self, used=()):
         """Return the list of the terms that are open behind the used marks, in order."""
@@ -36,7 +69,9 @@ class Family:
         for bad in self._firsts:
             if bad & behind == 0:
                 closed = closed | bad
-        return [term for term in all_terms(self._count) if closed & _bits([term]) == 0]
+        return [
+            term for rank, term in enumerate(all_terms(self._count)) if closed >> rank & 1 == 0
+        ]
 
     def is_beginning(self, terms):
         """Return True if the terms of the list are a beginning."""
@@ -75,7 +110,7 @@ class Family:
     def complete(self, terms=()):
         """Return the rule that fits, begins with the terms and then takes the least ones."""
         rule = self._checked_rule(terms)
-        self._check_sound()
+        self.check_sound()
         at = self._first_closed(rule)
         if at is not None:
             raise InvalidBeginning(at)
@@ -87,7 +122,7 @@ class Family:
     def ahead_of(self, mark):
         """Return the ascending tuple of the marks that stand ahead of the mark in every rule."""
         check_marks([mark], self._count)
-        self._check_sound()
+        self.check_sound()
         # A mark that is not needed to use this one may stand behind it.
         others = [other for other in range(self._count) if other != mark]
         return tuple([other for other in others if mark not in self.reach([other])])
@@ -95,7 +130,7 @@ class Family:
     def directions(self, mark):
         """Return the tuple of the directions that the mark has in some rule."""
         check_marks([mark], self._count)
-        self._check_sound()
+        self.check_sound()
         # Behind more marks, more terms are open. So the mark is put behind all marks
         # that can be used without it, where no other mark has an open term.
         latest = self.open_terms(self.reach([mark]))
@@ -112,19 +147,47 @@ class Family:
         return Barrier(
             inside,
             tuple([term for term in outside if term in exits]),
-            tuple([(term, self._first_block(term, inside)) for term in blocked]),
+            self._first_blocks(blocked, inside),
         )
+
+    def find_gate(self, among):
+        """Return the gate that no rule with these ascending marks alone passes.
+
+        Return None if such a rule explains the evidence.
+        """
+        inside = self.reach([mark for mark in range(self._count) if mark not in among])
+        left = self.open_place(inside)
+        if left is None:
+            return None
+        blocked = [
+            term for term in all_terms(self._count) if term[0] in among and term[0] not in inside
+        ]
+        return Gate(inside, (), self._first_blocks(blocked, inside), tuple(among), left)
+
+    def open_place(self, used):
+        """Return the first place that is open behind the used marks, or None."""
+        found = self._places_behind(used)
+        return found[0][1] if found else None
+
+    def exits_from(self, inside):
+        """Return the list of the terms that can be the first one with a mark not inside."""
+        others = [mark for mark in range(self._count) if mark not in inside]
+        return self.open_terms(self.reach(others))
+
+    def implies(self, step):
+        """Return True if no rule that fits puts the two books of the step the other way round.
+
+        The family is to be sound.
+        """
+        stays = [mark for mark, sign in enumerate(step) if sign == 0]
+        bad = bad_terms(step)
+        return not any([term in bad for term in self.exits_from(stays)])
 
     def _checked_rule(self, terms):
         rule = Rule.listed(terms)
         if any([mark >= self._count for mark in rule.marks]):
             raise InvalidRule(rule.terms)
         return rule
-
-    def _check_sound(self):
-        barrier = self.find_barrier()
-        if barrier is not None:
-            raise NoRule(barrier)
 
     def _first_closed(self, rule):
         """Return the index of the first term that is not open behind those before it, or None."""
@@ -151,17 +214,34 @@ class Family:
         ]
         return sorted(set(larger))
 
-    def _first_block(self, term, inside):
-        """Return the first place that agrees on the marks inside and closes the term."""
-        agreed = self._with_marks(inside)
-        found = [
-            place for bad, place in self._firsts.items()
-            if bad & agreed == 0 and bad & _bits([term]) != 0
-        ]
-        return found[0]
+    def _first_blocks(self, terms, inside):
+        """Return the tuple of the terms with the first place that closes each behind the marks."""
+        behind = self._places_behind(inside)
+        blocks = []
+        for term in terms:
+            bit = _bits([term])
+            closing = [place for bad, place in behind if bad & bit != 0]
+            blocks.append((term, closing[0]))
+        return tuple(blocks)
+
+    def _places_behind(self, used):
+        """Return the pairs of bad terms and place that are open behind the used marks."""
+        behind = self._with_marks(used)
+        return [(bad, place) for bad, place in self._firsts.items() if bad & behind == 0]
 
     def _with_marks(self, marks):
         return _bits([term for term in all_terms(self._count) if term[0] in marks])
+
+
+def sound_family(evidence):
+    """Return the family of the evidence; raise NoRule if no rule fits."""
+    family = Family(evidence)
+    family.check_sound()
+    return family
+
+
+def _bad_bits(evidence, place):
+    return _bits(bad_terms(evidence.step(place)))
 
 
 def _bits(terms):

@@ -1,6 +1,6 @@
 """Tests of values of any kind."""
 
-from shelfterms.errors import InvalidMark, InvalidTerm
+from shelfterms.errors import InvalidBook, InvalidMark, InvalidTerm
 
 LETTERS = "abcdefghijklmnopqrstuvwxyz"
 LONGEST_NAME = 12
@@ -30,6 +30,13 @@ def is_term(value, count):
         and is_integer(value[1], -1, 1)
         and value[1] != 0
     )
+
+
+def check_books(books, catalog):
+    """Raise InvalidBook for the first one that is no book of the catalog."""
+    for book in books:
+        if not catalog.is_book(book):
+            raise InvalidBook(book)
 
 
 def check_marks(marks, count):

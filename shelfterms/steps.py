@@ -1,4 +1,4 @@
-"""Terms, and the steps from one book to another."""
+"""Terms, sets of marks, and the steps from one book to another."""
 
 
 def step_between(earlier, later):
@@ -25,6 +25,15 @@ def bad_terms(step):
 def all_terms(count):
     """Return the list of all terms of `count` marks, in order."""
     return [(mark, direction) for mark in range(count) for direction in (1, -1)]
+
+
+def mark_sets(count, size):
+    """Return the list of all sets of `size` marks as ascending tuples, in ascending order."""
+    sets = [
+        tuple([mark for mark in range(count) if bits >> mark & 1 == 1])
+        for bits in range(1 << count)
+    ]
+    return sorted([marks for marks in sets if len(marks) == size])
 
 
 def term_rank(term):

@@ -14,6 +14,31 @@ OTHER_KINDS = (
     frozenset(), range(1), object(), object, len, ..., NotImplemented, 1j,
 )
 
+BOUND = 10 ** 12
+# Values that are no books, marks and terms of a catalog with three marks.
+NO_BOOKS = (
+    (), (1,), (1, 2), (1, 2, 3, 4), [1, 2, 3], "123", (1, 2, "3"), ("1", 2, 3), (1, None, 3),
+    (True, 1, 2), (1, 2, False), (BOUND + 1, 0, 0), (0, 0, -BOUND - 1), (1.0, 2, 3), (1, 2, 3.0),
+    ((1, 2, 3),), (1, (2,), 3), ([1], 2, 3), ([], [], []), {1: 2, 3: 4, 5: 6}, {1, 2, 3}, 123,
+    "top", *OTHER_KINDS,
+)
+NO_MARKS = (
+    -1, 3, 8, 10 ** 30, -10 ** 30, "0", "a", (0,), (), (0, 1), 0.0, "", b"\x00", *OTHER_KINDS,
+)
+NO_TERMS = (
+    (3, 1), (3, -1), (7, 1), (8, 1), (-1, 1), (10 ** 30, 1), (0, 0), (0, 2), (0, -2), (0, 10 ** 30),
+    (0,), (), (0, 1, 1), ((0, 1),), [0, 1], (True, 1), (False, 1), (0, True), (1, False),
+    (True, True), ([0], 1), (0, [1]), ([], []), "01", "a", (0.0, 1), (0, 1.0), ("a", 1), ("0", 1),
+    (0, "asc"), (None, 1), (0, None), ({}, 1), 0, 1, -1, {0: 1}, *OTHER_KINDS,
+)
+# Values that are no spots of an evidence with a shelf called top with three books alone.
+NO_SPOTS = (
+    ("top", 3), ("top", -1), ("top", 10 ** 30), ("top", -10 ** 30), ("low", 0), ("", 0), ("?", 0),
+    ("top", True), ("top", False), ("top", 0.0), ("top", "0"), ("top", None), ("top", (0,)),
+    ("top", [0]), ["top", 0], "top", ("top",), ("top", 0, 1), (), (("top", 0),), (0, "top"),
+    (None, 0), ([], 0), (["top"], 0), ({}, 0), (b"top", 0), (("top",), 0), 0, 1, *OTHER_KINDS,
+)
+
 
 class Hostile:
     """A value that cannot be compared, measured, iterated over or tested."""
@@ -115,6 +140,44 @@ def open_behind(used, count, shelves, absent=()):
     ]
 
 
+def terms_of(count):
+    """Return all terms in order."""
+    return [(mark, direction) for mark in range(count) for direction in (1, -1)]
+
+
+def blocks_behind(inside, marks, exits, count, shelves, absent=()):
+    """Return the blocks for the terms of these marks that are no exits, with the first places."""
+    return tuple(
+        (term, closing(term, inside, shelves, absent)[0]) for term in terms_of(count)
+        if term[0] in marks and term[0] not in inside and term not in exits
+    )
+
+
+def barrier_parts(exits, count, shelves, absent=()):
+    """Return the parts of the barrier that is found step by step, or None."""
+    inside = []
+    while True:
+        terms = [
+            term for term in open_behind(inside, count, shelves, absent) if term not in exits
+        ]
+        if not terms:
+            break
+        # The last one, because the choice does not matter.
+        inside.append(terms[-1][0])
+    if len(inside) == count:
+        return None
+    outside = [term for term in terms_of(count) if term[0] not in inside]
+    return (
+        tuple(sorted(inside)),
+        tuple(term for term in outside if term in exits),
+        blocks_behind(inside, range(count), exits, count, shelves, absent),
+    )
+
+
+def parts_of(barrier):
+    return (barrier.inside, barrier.exits, barrier.blocks)
+
+
 def all_beginnings(count, shelves, absent=()):
     """Return all beginnings, shorter ones first, step by step."""
     found = last = [()]
@@ -167,7 +230,84 @@ def random_case(seed):
     return count, shelves, absent
 
 
+def bounds_case(seed, most, swaps=0):
+    """Return an evidence at the bounds of point 2, with values from 0 to `most`, and its rule.
+
+    Without swaps, all shelves are sorted by the rule.
+    """
+    chance = random.Random(seed)
+    rule = [(mark, chance.choice((1, -1))) for mark in chance.sample(range(8), 8)]
+    evidence = Evidence(Catalog.numbered(8))
+    for letter in "abcdefghijklmnopqrst":
+        books = [tuple(chance.randint(0, most) for _ in range(8)) for _ in range(40)]
+        books.sort(key=lambda book: [direction * book[mark] for mark, direction in rule])
+        for at in [chance.randrange(39) for _ in range(swaps)]:
+            books[at:at + 2] = reversed(books[at:at + 2])
+        evidence = evidence.with_books("shelf" + letter, books)
+    return evidence, rule
+
+
 CASES = [random_case(seed) for seed in range(240)]
+
+
+def listed_cases():
+    """Return the number of marks, the shelves and the rules that fit them, case by case.
+
+    Where a case leaves out spots, its shelves come twice, with and without these books.
+    """
+    found = []
+    for count, shelves, absent in CASES:
+        left = {
+            name: [book for at, book in enumerate(books) if (name, at) not in absent]
+            for name, books in shelves.items()
+        }
+        found.append((count, shelves, fitting_rules(count, shelves)))
+        if left != shelves:
+            found.append((count, left, fitting_rules(count, left)))
+    return found
+
+
+LISTED = listed_cases()
+SOUND = [case for case in LISTED if case[2]]
+UNSOUND = [(count, shelves) for count, shelves, rules in LISTED if not rules]
+
+
+def book_near(chance, count, shelves):
+    """Return a book of a shelf, such a book with another value, or any book of small values."""
+    books = [book for shelf in shelves.values() for book in shelf]
+    kind = chance.randrange(4)
+    if not books or kind == 0:
+        return tuple(chance.randint(-1, 3) for _ in range(count))
+    book = chance.choice(books)
+    if kind == 1:
+        return book
+    return replaced(book, chance.randrange(count), chance.randint(-1, 3))
+
+
+def shown(paper):
+    """Return the kind of a rule, a barrier or a gate, and its parts."""
+    word = type(paper).__name__
+    if word == "Rule":
+        return (word, paper.terms)
+    if word == "Gate":
+        return (word, *parts_of(paper), paper.among, paper.place)
+    return (word, *parts_of(paper))
+
+
+def next_open(terms, allowed, count, shelves):
+    """Return the least term that is open behind the marks of these terms and allowed, or None."""
+    found = [
+        term for term in open_behind([mark for mark, _ in terms], count, shelves)
+        if allowed(term)
+    ]
+    return found[0] if found else None
+
+
+def completed(terms, count, shelves):
+    """Return the terms, followed by the least open term each time."""
+    while len(terms) < count:
+        terms = (*terms, next_open(terms, lambda term: True, count, shelves))
+    return terms
 
 
 class Asserts:

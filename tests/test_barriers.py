@@ -10,53 +10,14 @@ from shelfterms.evidence import Evidence
 from shelfterms.family import Family
 from shelfterms.papers import Barrier
 from support import (
-    CASES, OTHER_KINDS, Asserts, closing, evidence_of, fitting_rules, open_behind, spots_of,
-)
-
-# Values that are no terms of a catalog with three marks.
-NO_TERMS = (
-    (3, 1), (3, -1), (7, 1), (8, 1), (-1, 1), (10 ** 30, 1), (0, 0), (0, 2), (0, -2), (0, 10 ** 30),
-    (0,), (), (0, 1, 1), ((0, 1),), [0, 1], (True, 1), (False, 1), (0, True), (1, False),
-    (True, True), ([0], 1), (0, [1]), ([], []), "01", "a", (0.0, 1), (0, 1.0), ("a", 1), ("0", 1),
-    (0, "asc"), (None, 1), (0, None), ({}, 1), 0, 1, -1, {0: 1}, *OTHER_KINDS,
+    CASES, NO_TERMS, Asserts, barrier_parts, evidence_of, fitting_rules, parts_of, spots_of,
+    terms_of,
 )
 
 THREE = Catalog("a", "b", "c")
 SHELVES = {"top": [(0, 5, 5), (1, 5, 0), (1, 3, 9)], "low": [(0, 0, 1), (0, 0, 2), (0, 0, 1)]}
 LINE = evidence_of(3, {"top": SHELVES["top"]})
 BROKEN = evidence_of(3, SHELVES)
-
-
-def terms_of(count):
-    return [(mark, direction) for mark in range(count) for direction in (1, -1)]
-
-
-def parts_of(barrier):
-    return (barrier.inside, barrier.exits, barrier.blocks)
-
-
-def expected_parts(exits, count, shelves, absent):
-    """Return the parts of the barrier by the definition, or None."""
-    inside = []
-    while True:
-        terms = [
-            term for term in open_behind(inside, count, shelves, absent) if term not in exits
-        ]
-        if not terms:
-            break
-        # The last one, because the choice does not matter.
-        inside.append(terms[-1][0])
-    if len(inside) == count:
-        return None
-    outside = [term for term in terms_of(count) if term[0] not in inside]
-    return (
-        tuple(sorted(inside)),
-        tuple(term for term in outside if term in exits),
-        tuple(
-            (term, closing(term, inside, shelves, absent)[0])
-            for term in outside if term not in exits
-        ),
-    )
 
 
 class FindBarrier(Asserts, unittest.TestCase):
@@ -146,7 +107,7 @@ class FindBarrier(Asserts, unittest.TestCase):
         for count, shelves, absent in CASES:
             for spots in (absent, []):
                 family = Family(evidence_of(count, shelves), spots)
-                expected = expected_parts([], count, shelves, spots)
+                expected = barrier_parts([], count, shelves, spots)
                 self.assert_found(family, [], expected)
                 sound = fitting_rules(count, shelves, spots) != []
                 self.assertIs(family.find_barrier() is None, sound)
@@ -159,7 +120,7 @@ class FindBarrier(Asserts, unittest.TestCase):
             some = [exits for many in range(3) for exits in itertools.permutations(terms, many)]
             for exits in [*some, *[chance.sample(terms, len(terms)) for _ in range(5)]]:
                 exits = list(exits)[:chance.randint(2, len(terms))]
-                expected = expected_parts(exits, count, shelves, absent)
+                expected = barrier_parts(exits, count, shelves, absent)
                 self.assert_found(family, exits, expected)
 
     def test_every_rule_that_fits_leaves_by_an_exit(self):
@@ -180,7 +141,7 @@ class FindBarrier(Asserts, unittest.TestCase):
         for spot in spots_of(SHELVES):
             family = Family(BROKEN, [spot])
             for exits in ([], [(2, 1)], [(0, 1), (1, -1)]):
-                self.assert_found(family, exits, expected_parts(exits, 3, SHELVES, [spot]))
+                self.assert_found(family, exits, barrier_parts(exits, 3, SHELVES, [spot]))
 
     def test_the_list_may_be_changed(self):
         given = [(2, 1), (2, -1)]

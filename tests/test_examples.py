@@ -2,7 +2,7 @@
 
 import unittest
 
-from shelfterms.errors import InvalidText
+from shelfterms.errors import InvalidText, Undecided
 from support import Asserts
 
 
@@ -32,6 +32,55 @@ class WorkedExamples(Asserts, unittest.TestCase):
         from shelfterms.family import Family
         evidence = Evidence.of(Catalog("height", "year"), top=[(3, 1990), (1, 1995), (2, 1995)])
         self.assert_same(Family(evidence).open_terms(), [(1, 1)])
+
+    def test_settle(self):
+        from shelfterms.catalog import Catalog
+        from shelfterms.evidence import Evidence
+        from shelfterms.answers import settle
+        evidence = Evidence.of(Catalog("height", "year"), top=[(3, 1990), (1, 1995), (2, 1995)])
+        self.assert_same(settle(evidence).terms, ((1, 1), (0, 1)))
+
+    def test_order_of(self):
+        from shelfterms.catalog import Catalog
+        from shelfterms.evidence import Evidence
+        from shelfterms.answers import order_of
+        evidence = Evidence.of(Catalog("height", "year"), top=[(3, 1990), (1, 1995), (2, 1995)])
+        order = order_of(evidence, (5, 1990), (1, 1995))
+        self.assert_same([order.word, order.after.told(evidence.catalog)], ["before", [
+            "barrier", "inside:", "exit: height desc", "exit: year asc",
+            "block: height asc top 0 1", "block: year desc top 0 1",
+        ]])
+
+    def test_slots(self):
+        from shelfterms.catalog import Catalog
+        from shelfterms.evidence import Evidence
+        from shelfterms.answers import slots
+        evidence = Evidence.of(Catalog("height", "year"), top=[(3, 1990), (1, 1995), (2, 1995)])
+        self.assert_same(slots(evidence, "top", (2, 1994)), [1])
+
+    def test_line_up(self):
+        from shelfterms.catalog import Catalog
+        from shelfterms.evidence import Evidence
+        from shelfterms.answers import line_up
+        with self.assertRaises(Undecided) as caught:
+            line_up(Evidence(Catalog("height", "year")), [(1, 5), (2, 3)])
+        self.assert_same((caught.exception.first, caught.exception.second), (0, 1))
+
+    def test_blocks(self):
+        from shelfterms.catalog import Catalog
+        from shelfterms.evidence import Evidence
+        from shelfterms.answers import settle
+        evidence = Evidence.of(Catalog("a"), top=[(1,), (2,), (1,)])
+        self.assert_same(settle(evidence).blocks, (
+            ((0, 1), ("top", 1, 2)), ((0, -1), ("top", 0, 1)),
+        ))
+
+    def test_numbering(self):
+        from shelfterms.catalog import Catalog
+        from shelfterms.evidence import Evidence
+        from shelfterms.numbering import Numbering
+        numbering = Numbering(Evidence(Catalog("a", "b")))
+        self.assert_same([numbering.total, numbering.rule_at(3).terms], [8, ((0, -1), (1, -1))])
 
 
 if __name__ == "__main__":

@@ -14,19 +14,8 @@ from shelfterms.family import Family
 from shelfterms.papers import Barrier
 from shelfterms.rules import Rule
 from support import (
-    CASES, OTHER_KINDS, Asserts, all_beginnings, evidence_of, feasible_marks, fitting_rules,
-    full_rules, open_behind, replaced, spots_of,
-)
-
-# Values that are no marks of a catalog with three marks.
-NO_MARKS = (
-    -1, 3, 8, 10 ** 30, -10 ** 30, "0", "a", (0,), (), (0, 1), 0.0, "", b"\x00", *OTHER_KINDS,
-)
-# Values that are no terms of a catalog with three marks.
-NO_TERMS = (
-    (3, 1), (3, -1), (7, 1), (8, 1), (-1, 1), (0, 0), (0, 2), (0, -2), (0,), (0, 1, 1), [0, 1],
-    (True, 1), (False, 1), (0, True), (1, False), ([0], 1), (0, [1]), "01", (0.0, 1), (0, 1.0),
-    ("a", 1), (0, "asc"), (None, 1), 0, 1, *OTHER_KINDS,
+    CASES, NO_MARKS, NO_TERMS, OTHER_KINDS, Asserts, all_beginnings, evidence_of, feasible_marks,
+    fitting_rules, full_rules, open_behind, replaced, spots_of,
 )
 
 THREE = Catalog("a", "b", "c")

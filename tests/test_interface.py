@@ -71,6 +71,32 @@ INTERFACE = {
             "directions": "self, mark", "find_barrier": "self, exits=()",
         },
     }),
+    "answers": ({
+        "settle": "evidence, spots=()", "order_of": "evidence, first, second",
+        "chain_paper": "evidence, books", "slot_papers": "evidence, name, book",
+        "slots": "evidence, name, book", "exits_of": "evidence, inside",
+        "exit_paper": "evidence, inside, exits", "mark_paper": "evidence, first, second",
+        "direction_paper": "evidence, mark, direction", "need_paper": "evidence, mark",
+        "line_up": "evidence, books",
+    }, {
+        "Order": {"__init__": "self, first, second, before, after", "word": "self"},
+    }),
+    "judging": ({
+        "judge_rule": "evidence, rule, spots=()", "judge_barrier": "evidence, barrier, spots=()",
+        "judge_before": "evidence, barrier, first, second", "judge_gate": "evidence, gate",
+        "judge_scarcity": "evidence, paper", "judge_refusal": "evidence, refusal, most",
+    }, {}),
+    "numbering": ({}, {
+        "Numbering": {
+            "__init__": "self, evidence", "rule_at": "self, number", "number_of": "self, rule",
+            "walk": "self, start=0", "share": "self, first, second",
+            "__contains__": "self, rule",
+        },
+    }),
+    "shortening": ({
+        "is_implied": "evidence, books", "spine": "evidence", "shortest": "evidence",
+        "scarcity": "evidence",
+    }, {}),
 }
 
 
