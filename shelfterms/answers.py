@@ -3,6 +3,7 @@
 from shelfterms.errors import Undecided
 from shelfterms.family import Family, sound_family
 from shelfterms.kinds import check_books, check_marks, check_terms
+from shelfterms.papers import Barrier
 from shelfterms.rules import Rule
 from shelfterms.steps import all_terms, bad_terms, step_between
 
@@ -45,12 +46,13 @@ def chain_paper(evidence, books):
     """Return one barrier for the first and the last book, or a rule for two neighbours."""
     check_books(books, evidence.catalog)
     family = sound_family(evidence)
-    chain = None
+    # Combined with another barrier, this one gives the other one.
+    chain = Barrier(tuple(range(len(evidence.catalog))), (), ())
     for earlier, later in zip(books, books[1:]):
         paper = _may_precede(family, later, earlier)
         if isinstance(paper, Rule):
             return paper
-        chain = paper if chain is None else chain & paper
+        chain = chain & paper
     return chain
 
 
@@ -87,7 +89,7 @@ def exit_paper(evidence, inside, exits):
     possible = family.exits_from(inside)
     others = [term for term in possible if term not in exits]
     if not others:
-        return family.find_barrier(possible)
+        return family.barrier_behind(family.reach_within(inside), possible)
     outside = [term for term in all_terms(count) if term[0] not in inside]
     return family.complete([*_least_terms(family, outside, []), others[0]])
 

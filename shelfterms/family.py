@@ -83,11 +83,14 @@ class Family:
         check_marks(barred, self._count)
         return self._reach_without([term for term in all_terms(self._count) if term[0] in barred])
 
+    def reach_within(self, marks):
+        """Return the greatest feasible set of these marks."""
+        return self.reach([mark for mark in range(self._count) if mark not in marks])
+
     def is_feasible(self, marks):
         """Return True if some beginning has just these marks."""
         check_marks(marks, self._count)
-        others = [mark for mark in range(self._count) if mark not in marks]
-        return len(self.reach(others)) == len(marks)
+        return len(self.reach_within(marks)) == len(marks)
 
     def feasible_sets(self):
         """Yield all feasible sets as ascending tuples, smaller ones first."""
@@ -140,8 +143,10 @@ class Family:
         """Return the barrier behind what is used by terms other than the exits, or None."""
         check_terms(exits, self._count)
         inside = self._reach_without(exits)
-        if len(inside) == self._count:
-            return None
+        return None if len(inside) == self._count else self.barrier_behind(inside, exits)
+
+    def barrier_behind(self, inside, exits):
+        """Return the barrier with these marks inside, behind which the exits alone are open."""
         outside = [term for term in all_terms(self._count) if term[0] not in inside]
         blocked = [term for term in outside if term not in exits]
         return Barrier(
@@ -155,7 +160,7 @@ class Family:
 
         Return None if such a rule explains the evidence.
         """
-        inside = self.reach([mark for mark in range(self._count) if mark not in among])
+        inside = self.reach_within(among)
         left = self.open_place(inside)
         if left is None:
             return None
@@ -171,8 +176,7 @@ class Family:
 
     def exits_from(self, inside):
         """Return the list of the terms that can be the first one with a mark not inside."""
-        others = [mark for mark in range(self._count) if mark not in inside]
-        return self.open_terms(self.reach(others))
+        return self.open_terms(self.reach_within(inside))
 
     def implies(self, step):
         """Return True if no rule that fits puts the two books of the step the other way round.

@@ -13,8 +13,8 @@ class Numbering:
     def __init__(self, evidence):
         self._catalog = evidence.catalog
         # How a rule goes on depends on the marks before alone, whatever their order is.
-        self._ways = _ways_on(Family(evidence), len(evidence.catalog))
-        self.total = sum([many for _, many in self._ways[()]])
+        self._ways = ways_on(Family(evidence), len(evidence.catalog))
+        self.total = sum([many for _, _, many in self._ways[()]])
 
     def rule_at(self, number):
         """Return the rule with that number."""
@@ -26,8 +26,8 @@ class Numbering:
         while len(marks) < len(self._catalog):
             at = self._chosen(marks, left)
             left = left - self._many_before(marks, at)
-            terms.append(self._ways[marks][at][0])
-            marks = _with_mark(marks, terms[-1])
+            term, marks, _ = self._ways[marks][at]
+            terms.append(term)
         return Rule.listed(terms)
 
     def number_of(self, rule):
@@ -53,12 +53,10 @@ class Numbering:
         # The smaller sets come first, so all beginnings of a set are counted before it is left.
         for marks in reversed(list(self._ways)):
             begun = beginnings.get(marks, 0)
-            for term, many in self._ways[marks]:
-                mark, direction = term
+            for (mark, direction), larger, many in self._ways[marks]:
                 if step[mark] == direction:
                     share = share + begun * many
                 elif step[mark] == 0:
-                    larger = _with_mark(marks, term)
                     beginnings[larger] = beginnings.get(larger, 0) + begun
         return share
 
@@ -76,7 +74,7 @@ class Numbering:
             if not found:
                 return None
             number = number + self._many_before(marks, found[0])
-            marks = _with_mark(marks, term)
+            marks = self._ways[marks][found[0]][1]
         return number
 
     def _chosen(self, marks, number):
@@ -88,24 +86,22 @@ class Numbering:
 
     def _many_before(self, marks, at):
         """Return how many rules go on by the ways behind the marks that stand ahead of this one."""
-        return sum([many for _, many in self._ways[marks][:at]])
+        return sum([many for _, _, many in self._ways[marks][:at]])
 
 
-def _ways_on(family, count):
-    """Return for each feasible set the open terms behind it, each with the number of rules.
+def ways_on(family, count):
+    """Return for each feasible set of marks the tuple of the ways behind it, in order.
 
+    A way has an open term, the set with its mark, and the number of rules that go on so.
     The larger sets come first.
     """
     ways = {}
     totals = {}
     for marks in reversed(list(family.feasible_sets())):
-        found = [
-            (term, totals[_with_mark(marks, term)]) for term in family.open_terms(marks)
-        ]
+        found = []
+        for term in family.open_terms(marks):
+            larger = tuple(sorted([*marks, term[0]]))
+            found.append((term, larger, totals[larger]))
         ways[marks] = tuple(found)
-        totals[marks] = 1 if len(marks) == count else sum([many for _, many in found])
+        totals[marks] = 1 if len(marks) == count else sum([many for _, _, many in found])
     return ways
-
-
-def _with_mark(marks, term):
-    return tuple(sorted([*marks, term[0]]))

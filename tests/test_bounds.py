@@ -4,12 +4,13 @@ import random
 import time
 import unittest
 
-from shelfterms import answers, judging, shortening
+from shelfterms import answers, asking, culling, judging, notation, shortening
 from shelfterms.errors import NoRule, Undecided
 from shelfterms.evidence import Evidence
 from shelfterms.family import Family
+from shelfterms.library import Library
 from shelfterms.numbering import Numbering
-from shelfterms.papers import Barrier, Gate
+from shelfterms.papers import Barrier, Gate, Refusal
 from shelfterms.rules import Rule
 from support import Asserts, bounds_case, terms_of
 
@@ -17,6 +18,22 @@ SECONDS = 5
 # Few values give many equal ones, many values give long rows of different steps.
 SOUND = [bounds_case(most, most) for most in (0, 1, 2, 5, 10 ** 12)]
 UNSOUND = [bounds_case(most, most, 3) for most in (1, 2, 5, 10 ** 12)]
+
+
+def scattered_case():
+    """Return an evidence at the bounds whose barrier has each block on a shelf of its own."""
+    chance = random.Random(30)
+    disorder, _ = bounds_case(30, 10 ** 6, 40)
+    evidence = Evidence(disorder.catalog)
+    for name, term in zip(disorder.shelf_names, terms_of(8)):
+        first = tuple(chance.randint(0, 9) for _ in range(8))
+        second = tuple(
+            value - term[1] if mark == term[0] else value for mark, value in enumerate(first)
+        )
+        evidence = evidence.with_books(name, [first] * 19 + [second] * 21)
+    for name in disorder.shelf_names[16:]:
+        evidence = evidence.with_books(name, disorder[name])
+    return evidence
 
 
 class Bounds(Asserts, unittest.TestCase):
@@ -158,6 +175,60 @@ class Bounds(Asserts, unittest.TestCase):
                 with self.assertRaises(NoRule) as caught:
                     function(evidence, *arguments)
                 self.assert_same(caught.exception.barrier.blocks, barrier.blocks)
+
+    def test_blame_and_cull(self):
+        for evidence, _ in SOUND:
+            self.assert_same(culling.blame(evidence), list(evidence.all_spots()))
+            self.assert_same(culling.cull(evidence, 2), ())
+        for evidence, _ in UNSOUND:
+            for spot in culling.blame(evidence):
+                self.assertIs(Family(evidence, [spot]).sound, True)
+            for most in range(3):
+                self.assert_culled(evidence, most)
+
+    def test_cull_with_many_spots_to_try(self):
+        evidence = scattered_case()
+        self.assertEqual(len(culling.cull(evidence, 1).children), 32)
+        self.assert_culled(evidence, 2)
+
+    def assert_culled(self, evidence, most):
+        found = culling.cull(evidence, most)
+        if isinstance(found, Refusal):
+            self.assertIs(judging.judge_refusal(evidence, found, most), True)
+        else:
+            self.assertIs(Family(evidence, found).sound, True)
+
+    def test_outcomes_and_plan(self):
+        free, _ = bounds_case(0, 0)
+        books = [tuple(int(at == mark) for mark in range(8)) for at in range(5)]
+        self.assertEqual(len(asking.outcomes(free, books)), 120)
+        self.assertEqual(len(asking.plan(free, books).arrangements()), 120)
+        for evidence, _ in SOUND:
+            groups = [self.books(evidence, 3)[:5] for _ in range(5)]
+            found = asking.outcomes(evidence, groups[0])
+            self.assertEqual(sum(many for _, many in found), Numbering(evidence).total)
+            self.assertEqual(asking.best(evidence, *groups), 0)
+            tree = asking.plan(evidence, groups[0])
+            self.assertEqual(sorted(tree.arrangements()), [row for row, _ in found])
+
+    def test_library(self):
+        for evidence, _ in SOUND + UNSOUND:
+            library = Library(evidence.catalog)
+            library.run(*[("put", name, *evidence[name]) for name in evidence.shelf_names])
+            self.assertEqual(library.evidence, evidence)
+            for book in self.books(evidence, 5):
+                library.watch(book, evidence[evidence.shelf_names[0]][0])
+            for at in range(20):
+                library.take(evidence.shelf_names[at], at)
+            library.news()
+            for _ in range(20):
+                library.undo()
+            self.assert_same(library.rules_left, Numbering(evidence).total)
+
+    def test_notation(self):
+        for evidence, _ in SOUND + UNSOUND:
+            self.assertEqual(notation.read_evidence(notation.write_evidence(evidence)), evidence)
+            self.assertEqual(len(notation.chart(evidence)), len(list(evidence.places())))
 
 
 if __name__ == "__main__":

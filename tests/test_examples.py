@@ -82,6 +82,40 @@ class WorkedExamples(Asserts, unittest.TestCase):
         numbering = Numbering(Evidence(Catalog("a", "b")))
         self.assert_same([numbering.total, numbering.rule_at(3).terms], [8, ((0, -1), (1, -1))])
 
+    def test_blame(self):
+        from shelfterms.catalog import Catalog
+        from shelfterms.evidence import Evidence
+        from shelfterms.culling import blame
+        evidence = Evidence.of(Catalog("a"), top=[(1,), (2,), (1,)])
+        self.assert_same(blame(evidence), [("top", 0), ("top", 1), ("top", 2)])
+
+    def test_outcomes(self):
+        from shelfterms.catalog import Catalog
+        from shelfterms.evidence import Evidence
+        from shelfterms.asking import outcomes
+        found = outcomes(Evidence(Catalog("a")), [(2,), (1,)])
+        self.assert_same(found, [((0, 1), 1), ((1, 0), 1)])
+
+    def test_chart(self):
+        from shelfterms.catalog import Catalog
+        from shelfterms.evidence import Evidence
+        from shelfterms.notation import chart
+        evidence = Evidence.of(Catalog("height", "year"), top=[(3, 1990), (1, 1995), (2, 1995)])
+        self.assert_same(chart(evidence), ["top            0   1 ><", "top            1   2 <="])
+
+    def test_read_evidence(self):
+        from shelfterms.notation import read_evidence
+        with self.assertRaises(InvalidText) as caught:
+            read_evidence("marks a\nshelf top\n01")
+        self.assert_same(caught.exception.at, 3)
+
+    def test_library(self):
+        from shelfterms.catalog import Catalog
+        from shelfterms.library import Library
+        library = Library(Catalog("a"))
+        library.put("top", (1,), (2,))
+        self.assert_same(library.rules_left, 1)
+
 
 if __name__ == "__main__":
     unittest.main()

@@ -97,6 +97,33 @@ INTERFACE = {
         "is_implied": "evidence, books", "spine": "evidence", "shortest": "evidence",
         "scarcity": "evidence",
     }, {}),
+    "culling": ({"blame": "evidence", "cull": "evidence, most=1"}, {}),
+    "asking": ({
+        "outcomes": "evidence, books", "worst": "evidence, books", "best": "evidence, *groups",
+        "plan": "evidence, books",
+    }, {
+        "Plan": {},
+        "Leaf": {
+            "__init__": "self, arrangement", "follow": "self, rule", "deepest": "self",
+            "arrangements": "self",
+        },
+        "Fork": {
+            "__init__": "self, books, first, second, before, after", "follow": "self, rule",
+            "deepest": "self", "arrangements": "self",
+        },
+    }),
+    "library": ({}, {
+        "Library": {
+            "__init__": "self, catalog", "evidence": "self", "rules_left": "self",
+            "undo_depth": "self", "redo_depth": "self", "put": "self, name, *books",
+            "insert": "self, name, at, book", "take": "self, name, at", "drop": "self, name",
+            "run": "self, *deeds", "undo": "self", "redo": "self", "set_strict": "self, value",
+            "probe": "self, *deeds", "watch": "self, first, second", "news": "self",
+        },
+    }),
+    "notation": ({
+        "write_evidence": "evidence", "read_evidence": "text", "chart": "evidence",
+    }, {}),
 }
 
 
@@ -129,6 +156,19 @@ class Interface(unittest.TestCase):
             found = defined(parsed(FOLDER / f"{module}.py").body, ast.ClassDef)
             for name, methods in classes.items():
                 self.assert_defined(found[name].body, methods, name)
+
+    def test_strict_can_be_read_and_assigned(self):
+        body = defined(parsed(FOLDER / "library.py").body, ast.ClassDef)["Library"].body
+        parameters = [
+            ast.unparse(node.args) for node in body
+            if isinstance(node, ast.FunctionDef) and node.name == "strict"
+        ]
+        self.assertEqual(parameters, ["self", "self, value"])
+
+    def test_every_module_of_the_interface_is_listed(self):
+        # Beside the modules of the interface there is one helper alone.
+        names = sorted(path.stem for path in FOLDER.glob("*.py"))
+        self.assertEqual(names, sorted([*INTERFACE, "__init__", "kinds"]))
 
 
 class Files(unittest.TestCase):
